@@ -84,15 +84,10 @@ func checkColumn(count int, kind int, encoding int) api.Errno {
 }
 
 // readWhole answers what read makes of all bytes of s.
-func readWhole[T any](s string, read func(r *wire.Reader) []T) (l []T, e api.Errno) {
-	defer func() {
-		// Nothing but wire.Bad comes up from reading (the tests hold it to that), and no call may panic.
-		if recover() != nil {
-			l, e = nil, api.ErrBytes
-		}
-	}()
-	r := wire.NewReader(s)
-	l = read(r)
-	r.End()
+func readWhole[T any](s string, read func(r *wire.Reader) []T) ([]T, api.Errno) {
+	l, ok := wire.ReadWhole(s, read)
+	if !ok {
+		return nil, api.ErrBytes
+	}
 	return l, api.OK
 }

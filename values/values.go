@@ -2,6 +2,7 @@
 package values
 
 import (
+	"cmp"
 	"strings"
 
 	"strata/api"
@@ -40,6 +41,12 @@ func MayBe(v api.Value, kind int) bool {
 		return v.N == 0 && len(v.S) <= api.MaxText
 	}
 	return false
+}
+
+// Compare tells whether a is less than b (below 0), alike, or greater (above 0): two values of one kind, not Null.
+func Compare(a api.Value, b api.Value) int {
+	// Numbers have no text, and texts no number: of one kind only one of the two can differ.
+	return cmp.Or(cmp.Compare(a.N, b.N), strings.Compare(a.S, b.S))
 }
 
 // AppendPlain appends v, which is not Null and may be of the kind, as Plain.

@@ -54,6 +54,21 @@ func TestMayBe(t *testing.T) {
 	}
 }
 
+func TestCompare(t *testing.T) {
+	numbers := []api.Value{{N: math.MinInt}, {N: -2}, {N: -1}, {N: 0}, {N: 1}, {N: 2}, {N: math.MaxInt}}
+	texts := []api.Value{{S: ""}, {S: "\x00"}, {S: "A"}, {S: "a"}, {S: "a\x00"}, {S: "aa"}, {S: "ab"}, {S: "b"}, {S: "é"}, {S: "\xff"}}
+	for _, l := range [][]api.Value{numbers, texts} {
+		for i := range l {
+			for j := range l {
+				got := Compare(l[i], l[j])
+				if (got < 0) != (i < j) || (got > 0) != (i > j) {
+					t.Errorf("Compare(%v, %v) = %d", l[i], l[j], got)
+				}
+			}
+		}
+	}
+}
+
 func TestPlain(t *testing.T) {
 	full := strings.Repeat("x", api.MaxText)
 	for _, c := range []struct {

@@ -1,7 +1,7 @@
 package wire
 
 // Bad is what a Reader panics with: the bytes are not what they must be, seen at this place.
-// Whoever makes a Reader recovers from it.
+// ReadWhole recovers from it.
 type Bad struct {
 	Place int
 }
@@ -15,6 +15,21 @@ type Reader struct {
 // NewReader stands at the beginning of text.
 func NewReader(text string) *Reader {
 	return &Reader{text: text}
+}
+
+// ReadWhole answers what read makes of all bytes of text; not ok, if they are given up.
+func ReadWhole[T any](text string, read func(r *Reader) T) (made T, ok bool) {
+	defer func() {
+		// Nothing but Bad comes up from reading (the tests hold it to that), and no call may panic.
+		if recover() != nil {
+			var none T
+			made, ok = none, false
+		}
+	}()
+	r := NewReader(text)
+	made = read(r)
+	r.End()
+	return made, true
 }
 
 // GiveUp panics with Bad.

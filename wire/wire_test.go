@@ -113,3 +113,18 @@ func TestTaking(t *testing.T) {
 		}
 	}
 }
+
+func TestReadWhole(t *testing.T) {
+	all := func(r *Reader) string { return r.Take(2) }
+	if s, ok := ReadWhole("ab", all); s != "ab" || !ok {
+		t.Errorf("ReadWhole = %q, %v", s, ok)
+	}
+	for _, text := range []string{"", "a", "abc"} {
+		if s, ok := ReadWhole(text, all); s != "" || ok {
+			t.Errorf("ReadWhole of %q, which is not two bytes, = %q, %v", text, s, ok)
+		}
+	}
+	if s, ok := ReadWhole("", func(r *Reader) string { panic("of another kind") }); s != "" || ok {
+		t.Errorf("ReadWhole of what panics = %q, %v", s, ok)
+	}
+}
