@@ -8,14 +8,14 @@ import (
 	"strata/wire"
 )
 
-// Part parts a text into what it holds; not ok, if it is no file. The chunks are pieces of the text.
+// Part parts a text into what it holds; not ok, if it is no file. Nothing that it answers is a piece of the text.
 func Part(text string) (File, bool) {
 	chunks, footer, ok := cut(text)
 	if !ok {
 		return File{}, false
 	}
 	return wire.ReadWhole(footer, func(r *wire.Reader) File {
-		return readFooter(r, wire.NewReader(chunks))
+		return readFooter(r, wire.NewReader(strings.Clone(chunks)))
 	})
 }
 

@@ -8,15 +8,19 @@ import (
 	"strata/api"
 )
 
-// holdNoFile fails unless Columns and Scan find that s is no file, ahead of any other fault.
+// holdNoFile fails unless Columns, Scan and Open find that s is no file, ahead of any other fault.
 func holdNoFile(t *testing.T, why string, s string) {
 	t.Helper()
 	if columns, rows, e := Columns(s); columns != nil || rows != 0 || e != api.ErrBytes {
 		t.Errorf("P9: %s: Columns(%q) = %v, %d, %d, want ErrBytes", why, s, columns, rows, e)
 	}
 	for _, skip := range []bool{false, true} {
-		if rows, e := Scan(s, []int{-1}, []api.Range{from(99, null, word("a"))}, skip); rows != nil || e != api.ErrBytes {
+		ranges := []api.Range{from(99, null, word("a"))}
+		if rows, e := Scan(s, []int{-1}, ranges, skip); rows != nil || e != api.ErrBytes {
 			t.Errorf("P10: %s: Scan(%q) = %v, %d, want ErrBytes", why, s, rows, e)
+		}
+		if c, e := Open(s, []int{-1}, ranges, skip); c != nil || e != api.ErrBytes {
+			t.Errorf("P11: %s: Open(%q) = %v, %d, want ErrBytes", why, s, c, e)
 		}
 	}
 }

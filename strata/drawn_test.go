@@ -70,6 +70,9 @@ func TestSpoiled(t *testing.T) {
 				t.Fatalf("P12: Scan(%q, %v, %v) = %v, but with skip %v, %d", s, asked, ranges, whole, some, f)
 			}
 		}
+		for _, one := range take(open(t, s, asked, ranges, false), -1) {
+			holdKinds(t, one.row, asked, columns)
+		}
 		for _, l := range slices.Concat(whole, some) {
 			holdKinds(t, l, asked, columns)
 		}
@@ -146,6 +149,92 @@ func TestDrawnBounds(t *testing.T) {
 	}
 }
 
+// drawFile makes of a file one with chunks that may be bad, and tells which are, and with bounds (if there are to be some) that need not be true.
+func drawFile(r *rand.Rand, s string, bounds bool) (layout.File, [][]bool) {
+	f, _ := layout.Part(s)
+	bad := make([][]bool, len(f.Bands))
+	for i, band := range f.Bands {
+		bad[i] = make([]bool, len(band.Chunks))
+		for k := range band.Chunks {
+			if bounds {
+				band.Chunks[k].Bounds = drawBounds(r, f.Columns[k].Kind)
+			}
+			if r.Intn(12) == 0 {
+				bad[i][k] = true
+				band.Chunks[k].Text += "x"
+			}
+		}
+	}
+	return f, bad
+}
+
+// step is a row that is given, and how many bands have been decoded by then.
+type step struct {
+	numbered
+	bands int
+}
+
+// ranging answers what the document says of a ranging that is not stopped: its rows, and how it ends.
+func ranging(t api.Table, f layout.File, bad [][]bool, columns []int, ranges []api.Range, skip bool) (steps []step, bands int, e api.Errno) {
+	first := 0
+	for i, band := range f.Bands {
+		rows := t.Rows[first : first+band.Rows]
+		first += band.Rows
+		if skip && isSkipped(band, ranges) {
+			continue
+		}
+		bands++
+		for k := range bad[i] {
+			inRange := func(x api.Range) bool { return x.Column == k }
+			if bad[i][k] && (slices.Contains(columns, k) || slices.ContainsFunc(ranges, inRange)) {
+				return steps, bands, api.ErrBytes
+			}
+		}
+		for place, l := range rows {
+			one := expected(api.Table{Columns: t.Columns, Rows: [][]api.Value{l}}, columns, ranges)
+			if len(one) == 1 {
+				steps = append(steps, step{numbered{first - band.Rows + place, one[0]}, bands})
+			}
+		}
+	}
+	return steps, bands, api.OK
+}
+
+// TestDrawnRangings: each one that is drawn gives what the document says, wherever it is stopped, in any order.
+func TestDrawnRangings(t *testing.T) {
+	r := rand.New(rand.NewSource(16))
+	failed, early := 0, 0
+	for range 1500 {
+		table, o := drawTable(r)
+		f, bad := drawFile(r, write(t, table, o), o.Bounds)
+		columns, ranges := drawQuestion(r, table)
+		skip := r.Intn(2) == 0
+		c := open(t, layout.Join(f), columns, ranges, skip)
+		steps, bands, e := ranging(table, f, bad, columns, ranges, skip)
+		var rows []numbered
+		for _, one := range steps {
+			rows = append(rows, one.numbered)
+		}
+		for _, most := range append(r.Perm(len(steps)+1), -1, len(steps)+1) {
+			if most < 1 || most > len(steps) {
+				holdRows(t, c, most, e, bands, rows...)
+				continue
+			}
+			holdRows(t, c, most, api.OK, steps[most-1].bands, rows[:most]...)
+			early++
+		}
+		if e != api.OK {
+			failed++
+		}
+		if t.Failed() {
+			t.Fatalf("of the table %v, %v, the columns %v, the ranges %v, skip %v", table, o, columns, ranges, skip)
+		}
+	}
+	if failed < 200 || early < 2000 {
+		t.Errorf("only %d rangings met a bad band, and %d were stopped", failed, early)
+	}
+}
+
 // TestAnyText: every call ends with an error or without, of texts that are close to files.
 func TestAnyText(t *testing.T) {
 	r := rand.New(rand.NewSource(14))
@@ -164,6 +253,13 @@ func TestAnyText(t *testing.T) {
 		}
 		if l, f := Scan(s, []int{0}, nil, true); f != api.OK && (f != api.ErrBytes || l != nil) || f == api.OK && e != api.OK {
 			t.Fatalf("P10: Scan(%q) = %v, %d", s, l, f)
+		}
+		c, f := Open(s, []int{0}, nil, true)
+		if f != e || (c != nil) != (e == api.OK) {
+			t.Fatalf("P11: Open(%q) = %v, %d, where Columns tells %d", s, c, f, e)
+		}
+		if c != nil && len(take(c, -1)) > rows {
+			t.Fatalf("P11: more rows of %q than Columns tells", s)
 		}
 	}
 }

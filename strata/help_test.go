@@ -70,12 +70,27 @@ func write(t *testing.T, table api.Table, o api.Options) string {
 	return s
 }
 
-// holdScan fails unless Scan answers so.
+// holdScan fails unless Scan answers so, and a cursor gives it.
 func holdScan(t *testing.T, s string, columns []int, ranges []api.Range, skip bool, e api.Errno, want ...[]api.Value) {
 	t.Helper()
 	rows, f := Scan(s, columns, ranges, skip)
 	if f != e || (e != api.OK && rows != nil) || !slices.EqualFunc(rows, want, slices.Equal) {
 		t.Errorf("P10: Scan(.., %v, %v, %v) = %v, %d, want %v, %d", columns, ranges, skip, rows, f, want, e)
+	}
+	c, f := Open(s, columns, ranges, skip)
+	if f != api.OK {
+		if c != nil || f != e {
+			t.Errorf("P11: Open(.., %v, %v, %v) = %v, %d, want %d", columns, ranges, skip, c, f, e)
+		}
+		return
+	}
+	var given [][]api.Value
+	for _, l := range c.Rows() {
+		given = append(given, l)
+	}
+	// Rows that come ahead of a bad band are none of Scan's answer.
+	if c.Err() != e || (e == api.OK && !slices.EqualFunc(given, want, slices.Equal)) {
+		t.Errorf("P11: a ranging of %v, %v, %v gives %v, %d, want %v, %d", columns, ranges, skip, given, c.Err(), want, e)
 	}
 }
 

@@ -9,6 +9,7 @@ import (
 	"sync"
 	"testing"
 	"time"
+	"unsafe"
 
 	"strata/api"
 )
@@ -35,8 +36,13 @@ func TestNothingHandedInIsChanged(t *testing.T) {
 		if _, e := Scan(s, columns, ranges, true); e != api.OK {
 			t.Fatalf("P10: Scan: %d", e)
 		}
+		c := open(t, s, columns, ranges, true)
+		for _, one := range take(c, -1) {
+			clear(one.row[:cap(one.row)])
+		}
+		take(c, 1)
 		if !reflect.DeepEqual(before, deepCopy(table, o, columns, ranges)) {
-			t.Fatalf("P2: Write or Scan changed what it was given: %v", table)
+			t.Fatalf("P2: Write, Scan or a cursor changed what it was given: %v", table)
 		}
 	}
 }
@@ -93,6 +99,118 @@ func TestRowsOfNoColumnsShareNoRoom(t *testing.T) {
 	}
 }
 
+// TestRowsAreTheCallers: whatever is written into one that yield was given shows nowhere else.
+func TestRowsAreTheCallers(t *testing.T) {
+	s := write(t, mixed, api.Options{Band: 2, Encodings: []int{api.Dict, api.Dict, api.Dict}, Bounds: true})
+	columns := []int{0, 2, 2, 0}
+	c := open(t, s, columns, nil, false)
+	want := take(open(t, s, columns, nil, false), -1)
+	for spoiled := range want {
+		var l []numbered
+		for number, one := range c.Rows() {
+			l = append(l, numbered{number, one})
+			if number == spoiled {
+				// At once, while more rows of its band are to come, and behind its end too.
+				overwrite(one)
+			}
+		}
+		overwrite(l[spoiled].row)
+		for i := range l {
+			if i != spoiled && !alike(l[i], want[i]) {
+				t.Errorf("P2: the rows %d and %d share room: %v", i, spoiled, l[i])
+			}
+		}
+	}
+	if l := take(c, -1); !slices.EqualFunc(l, want, alike) {
+		t.Errorf("P2: rows of an earlier ranging share room with this one's: %v", l)
+	}
+	var none [][]api.Value
+	for number, one := range open(t, s, nil, nil, false).Rows() {
+		none = append(none, append(one, num(number)))
+	}
+	if !slices.EqualFunc(none, [][]api.Value{{num(0)}, {num(1)}, {num(2)}, {num(3)}, {num(4)}}, slices.Equal) {
+		t.Errorf("P2: rows without values share room: %v", none)
+	}
+}
+
+// overwrite writes into all of a list, its spare room too.
+func overwrite(l []api.Value) {
+	l = l[:cap(l)]
+	for i := range l {
+		l[i] = word("overwritten")
+	}
+}
+
+// TestListsAreTheCallers: a cursor does not see what becomes of the lists that Open was given.
+func TestListsAreTheCallers(t *testing.T) {
+	s := countingFile(t)
+	for _, skip := range both {
+		columns, ranges := []int{0}, []api.Range{from(0, num(4), num(7)), from(2, word("aaa"), null)}
+		change := func() {
+			columns[0] = 2
+			ranges[0] = from(1, num(0), num(0))
+			ranges[1].Low = word("b")
+		}
+		c := open(t, s, columns, ranges, skip)
+		other := open(t, s, columns, ranges, skip)
+		bands := 4
+		if skip {
+			bands = 2
+		}
+		change()
+		holdRows(t, c, -1, api.OK, bands, numbersFrom(4, 7)...)
+		holdRows(t, other, -1, api.OK, bands, numbersFrom(4, 7)...)
+		columns[0], ranges[0], ranges[1] = 0, from(0, num(4), num(7)), from(2, word("aaa"), null)
+		c = open(t, s, columns, ranges, skip)
+		var l []numbered
+		for number, one := range c.Rows() {
+			l = append(l, numbered{number, one})
+			change()
+		}
+		if !slices.EqualFunc(l, numbersFrom(4, 7), alike) {
+			t.Errorf("P2: lists that change within a ranging change its rows: %v", l)
+		}
+	}
+}
+
+// lent makes a text of which the bytes can be taken back, to see who still holds them.
+func lent(s string) (text string, takeBack func()) {
+	b := []byte(s)
+	return unsafe.String(unsafe.SliceData(b), len(b)), func() { clear(b) }
+}
+
+// TestTextsAreTheCallers: no text that was handed in is kept, by a cursor or in an answer.
+func TestTextsAreTheCallers(t *testing.T) {
+	s := countingFile(t)
+	all := []int{0, 1, 2}
+	text, takeBack := lent(s)
+	low, takeLowBack := lent("aaa")
+	high, takeHighBack := lent("aaaaaaa")
+	ranges := []api.Range{from(2, word(low), word(high))}
+	columns, _, _ := Columns(text)
+	rows, _ := Scan(text, all, ranges, true)
+	c := open(t, text, all, ranges, true)
+	early := take(c, 2)
+	takeBack()
+	takeLowBack()
+	takeHighBack()
+	want := counting(10)
+	if !slices.Equal(columns, want.Columns) {
+		t.Errorf("P2: names are pieces of the file: %v", columns)
+	}
+	if !slices.EqualFunc(rows, want.Rows[3:8], slices.Equal) {
+		t.Errorf("P2: rows are pieces of the file: %v", rows)
+	}
+	var kept []numbered
+	for n := 3; n <= 7; n++ {
+		kept = append(kept, numbered{n, want.Rows[n]})
+	}
+	if !slices.EqualFunc(early, kept[:2], alike) {
+		t.Errorf("P2: rows of a cursor are pieces of the file: %v", early)
+	}
+	holdRows(t, c, -1, api.OK, 2, kept...)
+}
+
 // holdGoroutines fails if more are left than before; one that has sent all may still be about to go.
 func holdGoroutines(t *testing.T, before int) {
 	t.Helper()
@@ -125,13 +243,43 @@ func TestNoGoroutineIsLeft(t *testing.T) {
 	holdGoroutines(t, before)
 }
 
+// TestNoGoroutineWhileYielding: none works while yield is called, nor behind a ranging that was stopped or met a bad band.
+func TestNoGoroutineWhileYielding(t *testing.T) {
+	columns, o := columnsOf(api.MaxColumns)
+	o.Band = 5
+	table := api.Table{Columns: columns, Rows: slices.Repeat([][]api.Value{row(num(1), num(2), num(3), num(4), num(5), num(6), num(7), num(8))}, 30)}
+	s := write(t, table, o)
+	all := []int{0, 1, 2, 3, 4, 5, 6, 7}
+	c := open(t, s, all, nil, false)
+	before := runtime.NumGoroutine()
+	for range c.Rows() {
+		holdGoroutines(t, before)
+	}
+	holdGoroutines(t, before)
+	for most := 1; most <= 30; most++ {
+		take(c, most)
+		holdGoroutines(t, before)
+	}
+	for column := range all {
+		bad := open(t, spoilChunk(t, s, 3, column), all, nil, false)
+		for range bad.Rows() {
+			holdGoroutines(t, before)
+		}
+		holdEnd(t, bad, api.ErrBytes, 4)
+		holdGoroutines(t, before)
+	}
+}
+
 func TestCallsAtOnce(t *testing.T) {
 	s := write(t, mixed, api.Options{Band: 2, Encodings: []int{api.Delta, api.Runs, api.Dict}, Bounds: true})
 	var group sync.WaitGroup
 	for range 8 {
+		c := open(t, s, []int{0}, []api.Range{from(0, null, num(-4))}, true)
 		group.Go(func() {
 			for range 50 {
 				holdScan(t, s, []int{0, 1, 2}, nil, true, api.OK, mixed.Rows...)
+				holdRows(t, c, -1, api.OK, 2, at(3, num(-4)), at(4, num(-4)))
+				holdRows(t, c, 1, api.OK, 1, at(3, num(-4)))
 			}
 		})
 	}

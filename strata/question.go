@@ -1,12 +1,15 @@
 package strata
 
 import (
+	"slices"
+	"strings"
+
 	"strata/api"
 	"strata/layout"
 	"strata/values"
 )
 
-// question is what is asked of a file, and is known to fit it.
+// question is what is asked of a file, and is known to fit it. It shares nothing with what was handed in.
 type question struct {
 	file    layout.File
 	columns []int
@@ -27,7 +30,17 @@ func ask(text string, columns []int, ranges []api.Range, skip bool) (question, a
 	if !q.hasRanges() {
 		return question{}, api.ErrRange
 	}
+	q.columns, q.ranges = slices.Clone(columns), copyRanges(ranges)
 	return q, api.OK
+}
+
+func copyRanges(ranges []api.Range) []api.Range {
+	copies := slices.Clone(ranges)
+	for place, r := range copies {
+		copies[place].Low.S = strings.Clone(r.Low.S)
+		copies[place].High.S = strings.Clone(r.High.S)
+	}
+	return copies
 }
 
 func (q question) hasColumns() bool {
@@ -71,25 +84,34 @@ func (q question) wanted() []bool {
 	return wanted
 }
 
-// rows goes through all bands.
-func (q question) rows() ([][]api.Value, api.Errno) {
+// giveRows goes through the bands and gives yield their rows, until it answers false or a band is bad; it tells how many bands were decoded.
+func (q question) giveRows(yield func(number int, row []api.Value) bool) (bands int, e api.Errno) {
 	wanted := q.wanted()
-	var rows [][]api.Value
+	first := 0
 	for _, band := range q.file.Bands {
-		if q.skip && q.isOutside(band) {
-			continue
-		}
-		lists, ok := decodeBand(band, q.file, wanted)
-		if !ok {
-			return nil, api.ErrBytes
-		}
-		for place := range band.Rows {
-			if q.liesIn(lists, place) {
-				rows = append(rows, q.rowAt(lists, place))
+		if !q.skip || !q.isOutside(band) {
+			bands++
+			lists, ok := decodeBand(band, q.file, wanted)
+			if !ok {
+				return bands, api.ErrBytes
+			}
+			if !q.giveBand(lists, first, band.Rows, yield) {
+				return bands, api.OK
 			}
 		}
+		first += band.Rows
 	}
-	return rows, api.OK
+	return bands, api.OK
+}
+
+// giveBand gives yield a band's rows, of which the first one has this number; it answers false, if yield did.
+func (q question) giveBand(lists [][]api.Value, first int, count int, yield func(number int, row []api.Value) bool) bool {
+	for place := range count {
+		if q.liesIn(lists, place) && !yield(first+place, q.rowAt(lists, place)) {
+			return false
+		}
+	}
+	return true
 }
 
 // isOutside tells whether bounds show that no row of the band lies in the ranges.
